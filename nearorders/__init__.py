@@ -1,0 +1,1 @@
+"""Nearorders: loose things kept near in a row."""
