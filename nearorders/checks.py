@@ -1,4 +1,6 @@
-"""What several modules ask of anything that is handed in."""
+"""What several modules need: looks at what is handed in, and division rounded up."""
+
+from nearorders.errors import NoNumber
 
 
 def is_whole(thing):
@@ -12,6 +14,17 @@ def is_between(thing, low, high):
     return is_whole(thing) and low <= thing <= high
 
 
+def need_between(thing, low, high):
+    """Refuse what is no whole number from low to high."""
+    if not is_between(thing, low, high):
+        raise NoNumber(f"this is no whole number from {low} to {high}")
+
+
 def is_rising(parts):
     """Tell whether each part is greater than the one ahead."""
     return all([one < other for one, other in zip(parts, parts[1:])])
+
+
+def rounded_up(number, by):
+    """Tell a number divided by another one, rounded up."""
+    return -(-number // by)

@@ -1,14 +1,10 @@
 """Orders: tuples (many, pairs) that tell which things go ahead of which."""
 
-from nearorders.checks import is_between, is_rising
-from nearorders.errors import NoNumber, NoOrder, NoPairs, NoThing, Round
+from nearorders.checks import is_between, is_rising, need_between
+from nearorders.errors import NoOrder, NoPairs, NoThing, Round
 
 MOST_THINGS = 6
-
-
-def is_many(thing):
-    """Tell whether an order may have so many things."""
-    return is_between(thing, 1, MOST_THINGS)
+MOST_APART = 5
 
 
 def is_thing(many, thing):
@@ -16,11 +12,14 @@ def is_thing(many, thing):
     return is_between(thing, 0, many - 1)
 
 
+def are_things(many, thing):
+    """Tell whether thing is a tuple of any number of so many things, alike ones too."""
+    return isinstance(thing, tuple) and all([is_thing(many, part) for part in thing])
+
+
 def is_pair(many, thing):
     """Tell whether thing is a tuple of two of so many things, alike ones too."""
-    if not isinstance(thing, tuple) or len(thing) != 2:
-        return False
-    return is_thing(many, thing[0]) and is_thing(many, thing[1])
+    return are_things(many, thing) and len(thing) == 2
 
 
 def are_pairs(many, things):
@@ -43,7 +42,7 @@ def is_order(thing):
     if not isinstance(thing, tuple) or len(thing) != 2:
         return False
     many, pairs = thing
-    if not is_many(many) or not isinstance(pairs, tuple):
+    if not is_between(many, 1, MOST_THINGS) or not isinstance(pairs, tuple):
         return False
     # Only pairs of numbers can be compared, so what they are is looked at first.
     if not are_pairs(many, pairs) or not is_rising(pairs):
@@ -78,8 +77,7 @@ def with_all_that_follows(many, pairs):
 
 def order_of(many, pairs):
     """Tell the order of the fewest pairs that has all of these."""
-    if not is_many(many):
-        raise NoNumber("an order has from 1 to 6 things")
+    need_between(many, 1, MOST_THINGS)
     if not isinstance(pairs, list) or not are_pairs(many, pairs):
         raise NoPairs("this is no list of tuples of two things")
     found = with_all_that_follows(many, pairs)

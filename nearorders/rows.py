@@ -1,16 +1,14 @@
 """Rows: all things of an order one behind the other, and how far apart loose ones stand."""
 
 from nearorders.errors import NoRow
-from nearorders.orders import is_thing, loose_pairs, need_order
+from nearorders.orders import are_things, loose_pairs, need_order
 
 
 def is_row(order, thing):
     """Tell of anything whether it is a row of an order."""
     need_order(order)
     many, pairs = order
-    if not isinstance(thing, tuple) or len(thing) != many:
-        return False
-    if not all([is_thing(many, part) for part in thing]) or len(set(thing)) != many:
+    if not are_things(many, thing) or len(thing) != many or len(set(thing)) != many:
         return False
     return all([thing.index(a) < thing.index(b) for a, b in pairs])
 

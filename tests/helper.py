@@ -1,6 +1,7 @@
 """What several tests share: orders by definition, wrong things, and how to expect a refusal."""
 
 import copy
+import functools
 import itertools
 
 
@@ -32,6 +33,13 @@ ANYTHING = [
 
 # A refusal is due of a thing of whatever kind.
 WHATEVER = ANYTHING + [0.5, 1.0, float("nan"), b"", b"01", set(), {0, 1}, frozenset(), range(2), Odd(), Odd, len]
+
+
+def no_numbers(low, high):
+    """What is no whole number from low to high."""
+    edges = [low - 1, high + 1, -high - 1, 10 ** 29, -(10 ** 29), True, False, str(low), [low], (low,), float(low)]
+    return edges + [thing for thing in WHATEVER if type(thing) is not int or not low <= thing <= high]
+
 
 NO_ORDERS = WHATEVER + [
     # how many there are
@@ -108,6 +116,7 @@ SMALL = [(many, pairs) for many in (1, 2, 3, 4) for pairs in relations(many) if 
 ORDERS = SMALL + LARGER
 
 
+@functools.cache
 def loose_by_words(order):
     many, pairs = order
     return [
@@ -127,6 +136,45 @@ def rows_by_words(order):
 def span_by_words(order, row):
     place = {thing: at for at, thing in enumerate(row)}
     return max((abs(place[a] - place[b]) for a, b in loose_by_words(order)), default=0)
+
+
+@functools.cache
+def least_span_by_words(order):
+    return min(span_by_words(order, row) for row in rows_by_words(order))
+
+
+def reach_by_words(order, seating):
+    return max((abs(seating[a] - seating[b]) for a, b in loose_by_words(order)), default=0)
+
+
+@functools.cache
+def seatings_by_words(order):
+    """All seatings of an order, each as (seating, reach)."""
+    many, pairs = order
+    return tuple(
+        (places, reach_by_words(order, places)) for places in itertools.product(range(many), repeat=many)
+        if all(places[a] < places[b] for a, b in pairs)
+    )
+
+
+def least_reach_by_words(order):
+    return min(reach for seating, reach in seatings_by_words(order))
+
+
+@functools.cache
+def rings_by_words(order):
+    """All rings of an order, each as (ring, steps up, steps aside)."""
+    many, pairs = order
+    loose = loose_by_words(order)
+    rings = []
+    for length in range(2, many + 1):
+        for ring in itertools.permutations(range(many), length):
+            steps = [(ring[at], ring[(at + 1) % length]) for at in range(length)]
+            up = sum(step in pairs for step in steps)
+            aside = sum(tuple(sorted(step)) in loose for step in steps)
+            if up + aside == length:
+                rings.append((ring, up, aside))
+    return tuple(rings)
 
 
 def has_refusal(case, refusal, function, *arguments):
