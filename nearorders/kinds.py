@@ -1,8 +1,8 @@
 """Kinds of orders: levels, chains, fences and crowns."""
 
 from nearorders.checks import is_whole, need_between, rounded_up
-from nearorders.errors import NoSizes, TooMany
-from nearorders.orders import MOST_THINGS, ahead_of, are_loose, need_order
+from nearorders.errors import NoSizes
+from nearorders.orders import MOST_THINGS, ahead_of, are_loose, need_few, need_order
 
 MOST_SIZES = 6
 
@@ -18,8 +18,7 @@ def need_sizes(sizes):
 def group_numbers(sizes):
     """Tell of each thing, numbered on from size to size, to which size it belongs, as a list."""
     need_sizes(sizes)
-    if sum(sizes) > MOST_THINGS:
-        raise TooMany("an order has at most 6 things")
+    need_few(sum(sizes))
     return [group for group, size in enumerate(sizes) for thing in range(size)]
 
 

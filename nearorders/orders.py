@@ -1,7 +1,7 @@
 """Orders: tuples (many, pairs) that tell which things go ahead of which."""
 
 from nearorders.checks import is_between, is_rising, need_between
-from nearorders.errors import NoOrder, NoPairs, NoThing, Round
+from nearorders.errors import NoOrder, NoPairs, NoThing, Round, TooMany
 
 MOST_THINGS = 6
 MOST_APART = 5
@@ -61,6 +61,12 @@ def need_thing(order, thing):
     need_order(order)
     if not is_thing(order[0], thing):
         raise NoThing("this is no thing of the order")
+
+
+def need_few(many):
+    """Refuse more things than an order may have."""
+    if many > MOST_THINGS:
+        raise TooMany("an order has at most 6 things")
 
 
 def with_all_that_follows(many, pairs):

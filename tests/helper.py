@@ -68,6 +68,15 @@ NO_ORDERS = WHATEVER + [
 ]
 
 
+# What is no row of the order of three loose things.
+NO_ROWS = WHATEVER + [
+    (0, 1), (0, 1, 2, 3), (0, 1, 2, 0), (0, 0, 1), (0, 1, 1), (1, 1, 1), (0, 1, 3), (1, 2, 3), (-1, 0, 1), (0, 1, -1),
+    [0, 1, 2], "012", {0: 0, 1: 1, 2: 2}, ("0", "1", "2"), (False, True, 2), (0, True, 2), (False, 1, 2), (0, 1, None),
+    (0, 1, "2"), (0, 1, [2]), (0, 1, (2,)), ((0,), (1,), (2,)), ([], [], []), ({}, {}, {}), (0, 1, 10 ** 29),
+    ((0, 1, 2),), (0, 1, 2.0), {0, 1, 2}, range(3), (0, 1, {}), ((0, 1), 2), (None, None, None),
+]
+
+
 def chain(many):
     """All things in one row."""
     return (many, tuple(itertools.combinations(range(many), 2)))
@@ -116,6 +125,12 @@ SMALL = [(many, pairs) for many in (1, 2, 3, 4) for pairs in relations(many) if 
 ORDERS = SMALL + LARGER
 
 
+def renumbered(order, numbers):
+    """The order with other numbers for its things."""
+    many, pairs = order
+    return (many, tuple(sorted((numbers[a], numbers[b]) for a, b in pairs)))
+
+
 @functools.cache
 def loose_by_words(order):
     many, pairs = order
@@ -157,6 +172,7 @@ def seatings_by_words(order):
     )
 
 
+@functools.cache
 def least_reach_by_words(order):
     return min(reach for seating, reach in seatings_by_words(order))
 

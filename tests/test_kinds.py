@@ -9,7 +9,7 @@ from nearorders.orders import is_order
 from nearorders.seatings import least_reach
 from nearorders.spans import least_span
 from tests.helper import (
-    NO_ORDERS, ORDERS, WHATEVER, chain, has_refusal, least_reach_by_words, loose_by_words, no_numbers,
+    NO_ORDERS, ORDERS, WHATEVER, chain, has_refusal, least_reach_by_words, loose_by_words, no_numbers, renumbered,
 )
 
 OF_SIZES = [levels_order, chains_order, levels_span, chains_reach]
@@ -47,12 +47,6 @@ def levels_by_words(order):
             return None
         levels.append(tuple(level))
     return levels
-
-
-def renumbered(order, numbers):
-    """The order with other numbers for its things."""
-    many, pairs = order
-    return (many, tuple(sorted((numbers[a], numbers[b]) for a, b in pairs)))
 
 
 class OrdersOfSizes(unittest.TestCase):

@@ -8,19 +8,11 @@ from nearorders.errors import NoOrder, NoRow
 from nearorders.orders import turned
 from nearorders.rows import all_rows, farthest, is_row, rows_many, span_of
 from tests.helper import (
-    ANYTHING, LARGER, NO_ORDERS, ORDERS, SMALL, WHATEVER, chain, has_refusal, is_fresh_list, loose_by_words,
+    ANYTHING, LARGER, NO_ORDERS, NO_ROWS, ORDERS, SMALL, chain, has_refusal, is_fresh_list, loose_by_words,
     rows_by_words, span_by_words,
 )
 
 ALL_BUT_ONE = (3, ((0, 1), (0, 2)))
-
-# What is no row of the order of three loose things.
-NO_ROWS = WHATEVER + [
-    (0, 1), (0, 1, 2, 3), (0, 1, 2, 0), (0, 0, 1), (0, 1, 1), (1, 1, 1), (0, 1, 3), (1, 2, 3), (-1, 0, 1), (0, 1, -1),
-    [0, 1, 2], "012", {0: 0, 1: 1, 2: 2}, ("0", "1", "2"), (False, True, 2), (0, True, 2), (False, 1, 2), (0, 1, None),
-    (0, 1, "2"), (0, 1, [2]), (0, 1, (2,)), ((0,), (1,), (2,)), ([], [], []), ({}, {}, {}), (0, 1, 10 ** 29),
-    ((0, 1, 2),), (0, 1, 2.0), {0, 1, 2}, range(3), (0, 1, {}), ((0, 1), 2), (None, None, None),
-]
 
 
 class IsRow(unittest.TestCase):
